@@ -1,0 +1,1 @@
+"""Shadebarriers: which barriers make concurrent marking safe."""
