@@ -1,8 +1,10 @@
-"""The examples of the document, as they stand there: points [4] and [6]; and those of the README."""
+"""The examples of the document, as they stand there: points [4] to [8]; and those of the README."""
 
 import doctest
 import pathlib
 import unittest
+
+from shadebarriers.errors import EmptySlot
 
 README = pathlib.Path(__file__).resolve().parent.parent / "README.md"
 
@@ -22,20 +24,64 @@ MARKS = """
 [26, True, True, ((), False)]
 """
 
+STATES = """
+>>> from shadebarriers.states import covered, is_ended, lost, start
+>>> STATE = (1, ((1,), (2,), (None,)), ('grey', 'white', 'white'), ((0,),), (True,))
+>>> [start((1, ((None,),), ((0,),))), covered(STATE), lost(STATE), is_ended(((), False), STATE)]
+[(1, ((None,),), ('white',), ((0,),), (False,)), (1, 2), (1, 2), False]
+"""
+
+RUNS = """
+>>> from shadebarriers.runs import is_run, states_of, thread_steps
+>>> RUN = ((1, ((1,), (None,)), ((0,),)), (('visit', 0), ('load', 0, 0, 0), ('store', 0, 0, 0, None), ('scan', 0)))
+>>> [is_run(((), False), RUN), thread_steps(RUN), states_of(((), False), RUN)[-1]]
+[True, 2, (1, ((None,), (None,)), ('black', 'white'), ((0, 1),), (True,))]
+"""
+
+# The document shows the error of the last line as: raises EmptySlot(slot=0)
+STEPS = """
+>>> from shadebarriers.states import start
+>>> from shadebarriers.steps import after
+"""
+RAISING = "after(((), False), start((1, ((None,),), ((0,),))), ('load', 0, 0, 0))"
+
+PROPERTIES = """
+>>> from shadebarriers.properties import PROPERTIES, first_break
+>>> RUN = ((1, ((1,), (None,)), ((0,),)), (('visit', 0), ('load', 0, 0, 0), ('store', 0, 0, 0, None), ('scan', 0)))
+>>> [PROPERTIES, [first_break(((), False), RUN, word) for word in PROPERTIES]]
+[('clean', 'covered', 'direct', 'safe', 'strong', 'weak'), [2, 3, 3, 4, None, None]]
+"""
+
 
 class Examples(unittest.TestCase):
     def run_example(self, name, text):
         test = doctest.DocTestParser().get_doctest(text, {}, name, None, 0)
         report = []
-        result = doctest.DocTestRunner(verbose=False).run(test, out=report.append)
-        self.assertGreater(result.attempted, 2)
+        result = doctest.DocTestRunner(verbose=False).run(test, out=report.append, clear_globs=False)
+        self.assertGreater(result.attempted, 1)
         self.assertEqual(result.failed, 0, "".join(report))
+        return test.globs
 
     def test_heaps(self):
         self.run_example("heaps", HEAPS)
 
     def test_marks(self):
         self.run_example("marks", MARKS)
+
+    def test_states(self):
+        self.run_example("states", STATES)
+
+    def test_runs(self):
+        self.run_example("runs", RUNS)
+
+    def test_steps(self):
+        names = self.run_example("steps", STEPS)
+        with self.assertRaises(EmptySlot) as caught:
+            eval(RAISING, names)
+        self.assertEqual(vars(caught.exception), {"slot": 0})
+
+    def test_properties(self):
+        self.run_example("properties", PROPERTIES)
 
     def test_readme(self):
         self.run_example("readme", README.read_text(encoding="utf-8"))

@@ -11,7 +11,17 @@ FUNCTIONS = {
         "is_within": ["table", "other"], "shaded": ["table", "state", "holder", "old", "new"],
         "known_table": ["word"],
     },
+    "states": {
+        "start": ["heap"], "is_state": ["value"], "is_ended": ["table", "state"], "lost": ["state"],
+        "covered": ["state"],
+    },
+    "steps": {"is_step": ["value"], "after": ["table", "state", "step"], "possible": ["table", "state"]},
+    "runs": {
+        "is_run": ["table", "value"], "states_of": ["table", "run"], "walk": ["table", "run"], "thread_steps": ["run"],
+    },
+    "properties": {"has": ["table", "state", "word"], "first_break": ["table", "run", "word"]},
 }
+GENERATORS = ["walk"]
 
 
 def parameters_of(function):
@@ -33,6 +43,11 @@ class Interface(unittest.TestCase):
                 self.assertEqual(function.__module__, module.__name__)
                 self.assertEqual(function.__name__, word)
                 self.assertEqual(parameters_of(function), parameters)
+                self.assertEqual(inspect.isgeneratorfunction(function), word in GENERATORS)
+
+    def test_constant(self):
+        module = importlib.import_module("shadebarriers.properties")
+        self.assertIsInstance(module.PROPERTIES, tuple)
 
     def test_errors_are_defined_in_their_file(self):
         module = importlib.import_module("shadebarriers.errors")

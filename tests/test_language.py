@@ -217,6 +217,25 @@ class Language(unittest.TestCase):
             if isinstance(node, ast.Call) and isinstance(node.func, ast.Attribute):
                 self.assertIn(node.func.attr, METHODS | own, where)
 
+    def test_generators(self):
+        """L23: the call of a generator is iterated at once, and no generator is used as a value."""
+        takers = {"list", "tuple", "dict", "sorted", "sum", "min", "max", "any", "all", "enumerate", "zip"}
+        generators = set()
+        for node, _ in self.nodes():
+            if isinstance(node, ast.FunctionDef) and any(isinstance(part, ast.Yield) for part in ast.walk(node)):
+                generators.add(node.name)
+        self.assertIn("walk", generators)
+        at_once = []
+        for node, _ in self.nodes():
+            if isinstance(node, (ast.For, ast.comprehension)):
+                at_once.append(node.iter)
+            if isinstance(node, ast.Call) and isinstance(node.func, ast.Name) and node.func.id in takers:
+                at_once += node.args
+        called = [call.func for call in at_once if isinstance(call, ast.Call)]
+        for node, where in self.nodes():
+            if isinstance(node, ast.Name) and node.id in generators:
+                self.assertTrue(any(node is name for name in called), where)
+
     def test_is(self):
         """L20: `is` beside None, True and False."""
         for node, where in self.nodes():
