@@ -1,4 +1,4 @@
-"""The examples of the document, as they stand there: points [4] to [8]; and those of the README."""
+"""The examples of the document, as they stand there: points [4] to [11]; and those of the README."""
 
 import doctest
 import pathlib
@@ -52,6 +52,30 @@ PROPERTIES = """
 [('clean', 'covered', 'direct', 'safe', 'strong', 'weak'), [2, 3, 3, 4, None, None]]
 """
 
+JUDGING = """
+>>> from shadebarriers.judging import fewest_steps, holds, properties_of
+>>> from shadebarriers.marks import known_table
+>>> [holds(known_table(word), 'safe') for word in ('value', 'holder', 'old', 'both', 'load')]
+[True, True, False, True, True]
+>>> [fewest_steps(known_table('old'), 'safe'), fewest_steps(((), False), 'safe'), properties_of(known_table('load'))]
+[2, 1, ('clean', 'covered', 'direct', 'safe', 'strong', 'weak')]
+"""
+
+NEEDLESS = """
+>>> from shadebarriers.marks import known_table
+>>> from shadebarriers.needless import least, needs_rescan
+>>> [len(least(known_table('load'), 'safe')[0]), needs_rescan(known_table('value'), 'safe'), needs_rescan(known_table('load'), 'safe')]
+[5, True, False]
+"""
+
+PRICES = """
+>>> from shadebarriers.marks import all_marks, known_table
+>>> from shadebarriers.prices import cheapest
+>>> EACH = (tuple([(mark, 1) for mark in all_marks()]), 1)
+>>> [cheapest(((), False), EACH, 'safe')[0], cheapest(known_table('old'), EACH, 'safe')[0], cheapest(((), False), ((), 1), 'safe')]
+[5, 4, None]
+"""
+
 
 class Examples(unittest.TestCase):
     def run_example(self, name, text):
@@ -82,6 +106,15 @@ class Examples(unittest.TestCase):
 
     def test_properties(self):
         self.run_example("properties", PROPERTIES)
+
+    def test_judging(self):
+        self.run_example("judging", JUDGING)
+
+    def test_needless(self):
+        self.run_example("needless", NEEDLESS)
+
+    def test_prices(self):
+        self.run_example("prices", PRICES)
 
     def test_readme(self):
         self.run_example("readme", README.read_text(encoding="utf-8"))

@@ -20,6 +20,14 @@ FUNCTIONS = {
         "is_run": ["table", "value"], "states_of": ["table", "run"], "walk": ["table", "run"], "thread_steps": ["run"],
     },
     "properties": {"has": ["table", "state", "word"], "first_break": ["table", "run", "word"]},
+    "judging": {
+        "holds": ["table", "word"], "fewest_steps": ["table", "word"], "breaking_run": ["table", "word"],
+        "properties_of": ["table"], "shows_break": ["table", "word", "value"],
+    },
+    "needless": {
+        "needless": ["table", "word"], "needs_rescan": ["table", "word"], "least": ["table", "word"],
+    },
+    "prices": {"is_price_list": ["value"], "cheapest": ["table", "price_list", "word"]},
 }
 GENERATORS = ["walk"]
 
