@@ -1,4 +1,4 @@
-"""The examples of the document, as they stand there: points [4] to [11]; and those of the README."""
+"""The examples of the document, as they stand there: points [4] to [15]; and those of the README."""
 
 import doctest
 import pathlib
@@ -76,6 +76,35 @@ PRICES = """
 [5, 4, None]
 """
 
+COUNTING = """
+>>> from shadebarriers.counting import count_least, count_within
+>>> from shadebarriers.marks import all_marks
+>>> [count_within((all_marks(), False), 'safe'), count_within((all_marks()[1:], False), 'safe'), count_least('clean', False)]
+[1, 2, 9]
+"""
+
+MACHINE = """
+>>> from shadebarriers.machine import Machine
+>>> M = Machine(((), False), (1, ((1,), (None,)), ((0,),)))
+>>> [M.do(('visit', 0)), M.do(('load', 0, 0, 0)), M.do(('store', 0, 0, 0, None)), M.collect(), M.is_ended(), M.lost(), M.undo()]
+[None, None, None, 1, True, (1,), ('scan', 0)]
+"""
+
+TEXTS = r"""
+>>> from shadebarriers.texts import format_heap, format_steps, parse_table
+>>> [format_heap((2, ((None, 0),), ((0,), ()))), format_steps((('store', 0, 1, 0, None), ('new', 2)))]
+['width 2\nobject - 0\nthread 0\nthread', 'store 0 1 0 -\nnew 2']
+>>> parse_table('rescan no\nnew scanned')
+((('new', 'scanned'),), False)
+"""
+
+DESK = """
+>>> from shadebarriers.desk import Desk
+>>> DESK = Desk()
+>>> [DESK.say('holds safe'), DESK.say('mark new scanned'), DESK.say('fewest safe'), DESK.say('table'), DESK.say('heap width 1 / object - / thread 0'), DESK.say('do visit 0'), DESK.say('collect'), DESK.say('lost')]
+['no', 'done', '2', 'rescan no / new scanned', 'done', 'done', '1', 'none']
+"""
+
 
 class Examples(unittest.TestCase):
     def run_example(self, name, text):
@@ -115,6 +144,18 @@ class Examples(unittest.TestCase):
 
     def test_prices(self):
         self.run_example("prices", PRICES)
+
+    def test_counting(self):
+        self.run_example("counting", COUNTING)
+
+    def test_machine(self):
+        self.run_example("machine", MACHINE)
+
+    def test_texts(self):
+        self.run_example("texts", TEXTS)
+
+    def test_desk(self):
+        self.run_example("desk", DESK)
 
     def test_readme(self):
         self.run_example("readme", README.read_text(encoding="utf-8"))

@@ -28,6 +28,22 @@ FUNCTIONS = {
         "needless": ["table", "word"], "needs_rescan": ["table", "word"], "least": ["table", "word"],
     },
     "prices": {"is_price_list": ["value"], "cheapest": ["table", "price_list", "word"]},
+    "counting": {"count_within": ["table", "word"], "count_least": ["word", "rescans"]},
+    "texts": {
+        "format_table": ["table"], "format_heap": ["heap"], "format_steps": ["steps"], "parse_table": ["text"],
+        "parse_heap": ["text"], "parse_steps": ["text"],
+    },
+}
+METHODS = {
+    "machine": {
+        "Machine": {
+            "__init__": ["self", "table", "heap"], "do": ["self", "step"], "undo": ["self"], "state": ["self"],
+            "steps": ["self"], "is_ended": ["self"], "lost": ["self"], "possible": ["self"],
+            "first_break": ["self", "word"], "collect": ["self"], "twin": ["self"], "__len__": ["self"],
+            "__eq__": ["self", "other"],
+        },
+    },
+    "desk": {"Desk": {"__init__": ["self"], "say": ["self", "line"]}},
 }
 GENERATORS = ["walk"]
 
@@ -52,6 +68,26 @@ class Interface(unittest.TestCase):
                 self.assertEqual(function.__name__, word)
                 self.assertEqual(parameters_of(function), parameters)
                 self.assertEqual(inspect.isgeneratorfunction(function), word in GENERATORS)
+
+    def test_classes(self):
+        for name, classes in METHODS.items():
+            module = importlib.import_module("shadebarriers." + name)
+            for word, methods in classes.items():
+                made = getattr(module, word)
+                self.assertEqual(made.__module__, module.__name__)
+                self.assertEqual(made.__bases__, (object,))
+                for method, parameters in methods.items():
+                    self.assertTrue(inspect.isfunction(vars(made)[method]), method)
+                    self.assertEqual(parameters_of(vars(made)[method]), parameters)
+
+    def test_properties_and_class_methods(self):
+        machine = vars(importlib.import_module("shadebarriers.machine").Machine)
+        for name in ("table", "heap"):
+            self.assertIsInstance(machine[name], property)
+            self.assertIsNone(machine[name].fset)
+            self.assertIsNone(machine[name].fdel)
+        self.assertIsInstance(machine["replayed"], classmethod)
+        self.assertEqual(parameters_of(machine["replayed"].__func__), ["cls", "table", "run"])
 
     def test_constant(self):
         module = importlib.import_module("shadebarriers.properties")

@@ -204,6 +204,47 @@ class Language(unittest.TestCase):
                 if bound or isinstance(getattr(node, "ctx", None), ast.Store) and isinstance(node, ast.Name):
                     self.assertFalse(is_builtin(name) and name not in SPECIAL_METHODS, where)
 
+    def test_names_of_imports_and_classes(self):
+        """L15: no parameter and no local variable has the name of a class or an import of its file."""
+        for path, tree in self.trees.items():
+            taken = {node.name for node in tree.body if isinstance(node, ast.ClassDef)}
+            taken |= {alias.name for node in tree.body if isinstance(node, ast.ImportFrom) for alias in node.names}
+            for name, node in names_in(tree):
+                if isinstance(node, ast.arg) or isinstance(getattr(node, "ctx", None), ast.Store):
+                    self.assertFalse(isinstance(node, (ast.arg, ast.Name)) and name in taken, f"{path.name} {name}")
+
+    def test_lists_and_dicts_at_module_level(self):
+        """L3, L15: they contain no other lists and dicts, and are only read."""
+        readers = {"get", "items", "keys", "values", "index", "count"}
+        for path, tree in self.trees.items():
+            kept = {
+                node.targets[0].id: node.value for node in tree.body
+                if isinstance(node, ast.Assign) and isinstance(node.value, (ast.List, ast.Dict))
+            }
+            for value in kept.values():
+                inner = [node for node in ast.walk(value) if isinstance(node, (ast.List, ast.Dict))]
+                self.assertEqual(inner, [value], path.name)
+            allowed = []
+            for node in ast.walk(tree):
+                if isinstance(node, ast.Subscript) and isinstance(node.ctx, ast.Load):
+                    allowed.append(node.value)
+                if isinstance(node, ast.Compare):
+                    allowed += node.comparators
+                if isinstance(node, (ast.For, ast.comprehension)):
+                    allowed.append(node.iter)
+                if isinstance(node, ast.Attribute) and node.attr in readers:
+                    allowed.append(node.value)
+            for node in ast.walk(tree):
+                if isinstance(node, ast.Name) and node.id in kept and isinstance(node.ctx, ast.Load):
+                    self.assertTrue(any(node is one for one in allowed), f"{path.name}:{node.lineno}")
+
+    def test_methods_over_methods(self):
+        """L5: of decorators only property, classmethod and staticmethod, each alone."""
+        for node, where in self.nodes():
+            if isinstance(node, ast.FunctionDef) and node.decorator_list:
+                [decorator] = node.decorator_list
+                self.assertIn(decorator.id, ("property", "classmethod", "staticmethod"), where)
+
     def test_builtins(self):
         """L8: only these builtins."""
         for node, where in self.nodes():
